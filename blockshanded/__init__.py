@@ -1,0 +1,1 @@
+"""Blockshanded: what programs can do that hand pieces of work on."""

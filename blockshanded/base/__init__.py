@@ -1,0 +1,1 @@
+"""Words, procedures and programs."""
