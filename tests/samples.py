@@ -5,6 +5,8 @@ import unittest
 from blockshanded.base.procedures import Procedure
 from blockshanded.base.programs import Program
 from blockshanded.errors import HandError, TooMany
+from blockshanded.mean.spaces import Space
+from blockshanded.runs.runs import Run
 
 FLIP = ("do", "flip", (1, 0))
 TWICE = Procedure("twice", (("b", "block"),), ("seq", ("run", "b"), ("run", "b")))
@@ -16,6 +18,9 @@ AGAIN = Procedure("again", (("w", "wrap"), ("b", "block")), (
 DEEP = Procedure("deep", (("w", "wrap"),), (
     "or", ("wrap", ("own", "w"), ("do", "work", (0, 1))), ("call", "deep", ("with", "again", ("own", "w")))))
 LOCKS = Program(2, Procedure("main", (), ("call", "deep", ("with", "locked"))), LOCKED, AGAIN, DEEP)
+LOOP = Program(1, Procedure("main", (), ("seq", ("do", "tick", (0,)), ("call", "main"))))
+SKIP = Program(1, Procedure("main", (), ("call", "skip", ("do", "tick", (0,)))),
+               Procedure("skip", (("b", "block"),), ("seq",)), Procedure("lost", (), ("call", "main")))
 
 GREATEST = 10 ** 40 - 1
 
@@ -55,7 +60,7 @@ def containers():
 
 def objects():
     """Objects of the package."""
-    return [TWICE, AGAIN, FLIPS, LOCKS, HandError("wrong"), TooMany(8)]
+    return [TWICE, AGAIN, FLIPS, LOCKS, Run(FLIPS, 0), Space(2), HandError("wrong"), TooMany(8)]
 
 
 def no_names():
@@ -80,6 +85,13 @@ def picture(value):
     if isinstance(value, Program):
         return ("Program", [picture(item) for item in (
             value.modes, value.procedures, value.names, value.words, value.has_wraps, len(value), str(value))])
+    if isinstance(value, Run):
+        return ("Run", [picture(item) for item in (
+            value.program, value.start, value.choices, value.until, value.state, value.mode, value.words, value.steps,
+            value.options, len(value), str(value))])
+    if isinstance(value, Space):
+        return ("Space", [picture(item) for item in (
+            value.modes, value.watched, value.ends, value.size, value.same, str(value))])
     if isinstance(value, BaseException):
         return (type(value).__name__, picture(list(vars(value).items())))
     return (type(value).__name__, value)
@@ -92,11 +104,11 @@ class PromiseTest(unittest.TestCase):
         """Both are equal, and of the same kinds throughout."""
         self.assertEqual(picture(found), picture(wanted))
 
-    def assert_raises(self, error, call, *arguments, **attributes):
+    def assert_raises(self, error, call, *arguments, by_keyword=None, **attributes):
         """The call raises just this error with these attributes, and changes no argument."""
         before = picture(arguments)
         with self.assertRaises(error) as caught:
-            call(*arguments)
+            call(*arguments, **(by_keyword or {}))
         self.assertIs(type(caught.exception), error)
         for name, wanted in attributes.items():
             self.assert_same(getattr(caught.exception, name), wanted)

@@ -1,0 +1,1 @@
+"""Questions about all runs of a program."""

@@ -1,0 +1,1 @@
+"""Relations, tables, and how they are reckoned."""
