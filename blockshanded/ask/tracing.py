@@ -31,7 +31,7 @@ class Trace:
     def take(self):
         """Takes one step."""
         closure, goal = self._left.pop()
-        part, around, context, moment = closure
+        part, around = closure[:2]
         self.steps_taken += 1
         if part[0] == "do":
             self._do(part)
@@ -45,11 +45,7 @@ class Trace:
             meanings = self._found(closure, part[3])
             self._enter(self._ledger.number(part[2], meanings), self._handed(closure, part[3]), goal)
         else:
-            wrap = self._handed(closure, (part[2],))[0]
-            inner = (part[3], around, context, moment)
-            arguments = wrap[0][3]
-            meanings = self._found(wrap, arguments) + self._found(closure, (part[3],))
-            self._enter(self._ledger.number(wrap[0][2], meanings), self._handed(wrap, arguments) + (inner,), goal)
+            self._wrap(closure, goal)
         if not self._left:
             self.arrived = True
 
@@ -59,6 +55,15 @@ class Trace:
             self._left = []
         else:
             self.mode_now = deed[4][self.mode_now]
+
+    def _wrap(self, closure, goal):
+        """Goes on with the procedure of a wrap, with the term as its last block."""
+        part = closure[0]
+        wrap = self._handed(closure, (part[2],))[0]
+        procedure, arguments = wrap[0][2:]
+        meanings = self._found(wrap, arguments) + self._found(closure, (part[3],))
+        closures = self._handed(wrap, arguments) + self._handed(closure, (part[3],))
+        self._enter(self._ledger.number(procedure, meanings), closures, goal)
 
     def _begin_all(self, closure, goal):
         """Leaves all terms of a "seq" to be done, each with the modes from which the next ones reach the goal."""

@@ -5,7 +5,7 @@ from blockshanded.mean.ledgers import Ledger
 from blockshanded.mean.readings import Reading
 from blockshanded.mean.tallies import Tally
 
-READINGS_BETWEEN_SWEEPS = 100
+READINGS_BETWEEN_SWEEPS = 20
 MAX_READINGS = 1000000
 
 
