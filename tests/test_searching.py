@@ -8,7 +8,7 @@ from blockshanded.ask.ends import end_run
 from blockshanded.ask.shortest import shortest_choices
 from blockshanded.ask.tracing import traced_choices
 from blockshanded.errors import TooMany
-from blockshanded.mean.books import MAIN, solved
+from blockshanded.mean.books import MAIN, root_relation, solved
 from blockshanded.runs.runs import Run
 from tests.long_runs import long_or_deep, long_way, wrapped_work
 from tests.random_programs import random_program
@@ -20,7 +20,7 @@ def questions(program, word):
     solving = solved(program, MAIN, word)
     many = solving.ledger.plan.many_ends
     last = [program.modes] if word is not None else range(program.modes)
-    relation = solving.meaning_now(solving.root)
+    relation = root_relation(solving)
     return solving, [(start, end) for start in range(program.modes) for end in last
                      if relation >> (start * many + end) & 1]
 

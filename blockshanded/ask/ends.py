@@ -1,8 +1,8 @@
 """The modes in which runs can end."""
 
-from blockshanded.ask.papers import found_run, has_pair, is_book_without, is_pair_headed, is_run_from, main_relation
+from blockshanded.ask.papers import found_run, has_pair, is_book_without, is_pair_headed, is_run_from
 from blockshanded.base.checks import check_mode, check_program
-from blockshanded.mean.books import MAIN, book_of_solving, solved
+from blockshanded.mean.books import MAIN, book_of_solving, root_relation, solved
 
 
 def check_start_and_end(program, start, end):
@@ -14,7 +14,7 @@ def check_start_and_end(program, start, end):
 
 def leads(solving, start, end):
     """Whether the relation that was found for main has this pair."""
-    return has_pair(main_relation(solving), start, end, solving.ledger.plan.many_ends)
+    return has_pair(root_relation(solving), start, end, solving.ledger.plan.many_ends)
 
 
 def can_end(program, start, end):

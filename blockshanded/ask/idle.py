@@ -5,9 +5,8 @@ from blockshanded.base.procedures import Procedure
 from blockshanded.base.programs import Program
 from blockshanded.base.terms import parts_in
 from blockshanded.errors import InvalidOperation
-from blockshanded.mean.books import MAIN, MAX_CONTEXTS
+from blockshanded.mean.books import MAIN, root_relation, solved_plan
 from blockshanded.mean.plans import Plan, triples_of
-from blockshanded.mean.solving import Solving
 
 NOTHING = ("seq",)
 # This is no name, so no deed of a program has it.
@@ -34,10 +33,10 @@ def with_marked_runs(program, part, parameter):
 def is_never_done(program, name, body):
     """Whether no run does the new deed if this is the body of a procedure."""
     procedures = [(other, parameters, body if other == name else own) for other, parameters, own in triples_of(program)]
-    solving = Solving(Plan(program.modes, procedures, NEW_WORD), MAIN, MAX_CONTEXTS)
+    solving = solved_plan(Plan(program.modes, procedures, NEW_WORD), MAIN)
     ends = program.modes + 1
     done = sum([1 << (mode * ends + program.modes) for mode in range(program.modes)])
-    return (solving.meaning_now(solving.root) & done) == 0
+    return (root_relation(solving) & done) == 0
 
 
 def is_never_run(program, name, parameter):

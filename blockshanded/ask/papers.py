@@ -8,11 +8,6 @@ from blockshanded.mean.relations import row_of
 from blockshanded.runs.runs import MAX_STEPS, Run
 
 
-def main_relation(solving):
-    """The true relation of main."""
-    return solving.meaning_now(solving.root)
-
-
 def has_pair(relation, start, end, ends):
     """Whether a relation, with so many ends, leads from a mode to an end."""
     return (row_of(relation, start, ends) >> end) & 1 == 1

@@ -29,7 +29,7 @@ class Search:
 
     def first_link(self):
         """The link with which a run begins."""
-        return self._entered(self._solving.root, (), 0)
+        return self._entered(self._solving.roots[0], (), 0)
 
     def is_hopeful(self, mode, link):
         """Whether what is left can reach the end from a mode."""
@@ -74,7 +74,7 @@ class Search:
         context = self._frames[frame][0]
         reading = self._readings.get(context)
         if reading is None:
-            reading = Reading(self._ledger, context, lambda number: self._solving.meaning_now(number))
+            reading = Reading(self._ledger, context, lambda number: self._solving.findings.meaning_now(number))
             self._readings[context] = reading
         return tuple([reading.found[part[1]] for part in parts])
 
@@ -92,7 +92,7 @@ class Search:
 
     def _entered(self, context, closures, behind):
         frame = self._number(("frame", context, closures), self._frames, (context, closures))
-        root = self._plan.roots[self._ledger.entries[context][0]]
+        root = self._plan.root(self._ledger.entries[context][0])
         return self._linked(self._closure(root, frame), behind)
 
     def _linked(self, closure, behind):

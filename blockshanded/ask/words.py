@@ -1,8 +1,8 @@
 """The deeds that runs can do."""
 
-from blockshanded.ask.papers import found_run, has_pair, is_book_without, is_pair_headed, is_run_from, main_relation
+from blockshanded.ask.papers import found_run, has_pair, is_book_without, is_pair_headed, is_run_from
 from blockshanded.base.checks import check_mode, check_program, check_word
-from blockshanded.mean.books import MAIN, book_of_solving, solved
+from blockshanded.mean.books import MAIN, book_of_solving, root_relation, solved
 
 
 def check_start_and_word(program, start, word):
@@ -15,7 +15,7 @@ def check_start_and_word(program, start, word):
 def does(solving, start):
     """Whether the relation that was found for main has the pair of a mode and the end of the watched word."""
     modes = solving.ledger.plan.many_modes
-    return has_pair(main_relation(solving), start, modes, modes + 1)
+    return has_pair(root_relation(solving), start, modes, modes + 1)
 
 
 def can_do(program, start, word):

@@ -2,9 +2,8 @@
 
 from blockshanded.base.checks import check_known, check_optional_word, check_program
 from blockshanded.errors import InvalidOperation
-from blockshanded.mean.ledgers import Ledger
+from blockshanded.mean.closing import Closing
 from blockshanded.mean.plans import plan_of
-from blockshanded.mean.readings import Reading
 from blockshanded.mean.reckoning import check_context, has_book_form, space_of
 from blockshanded.mean.solving import Solving
 
@@ -12,14 +11,27 @@ MAX_CONTEXTS = 800
 MAIN = ("main", ())
 
 
+def solved_plan(plan, context):
+    """How the true relations are found that are needed from a context on, which is the only root."""
+    solving = Solving(plan, MAX_CONTEXTS)
+    solving.solve([solving.ledger.number_of_told(context)])
+    return solving
+
+
 def solved(program, context, word):
-    """How the true relations are found that are needed from a context on."""
-    return Solving(plan_of(program, word), context, MAX_CONTEXTS)
+    """How the true relations of a program are found that are needed from a context on."""
+    return solved_plan(plan_of(program, word), context)
+
+
+def root_relation(solving):
+    """The true relation of the only context that was looked for."""
+    return solving.findings.meaning_now(solving.roots[0])
 
 
 def book_of_solving(solving):
     """The dict of the relations that were found, for contexts in ascending order."""
-    relations = {solving.ledger.told(number): solving.meaning_now(number) for number in solving.contexts_needed()}
+    findings, ledger = solving.findings, solving.ledger
+    relations = {ledger.told(number): findings.current[number] for number in solving.contexts_from(solving.roots)}
     return {context: relations[context] for context in sorted(relations)}
 
 
@@ -30,17 +42,21 @@ def book_of(program, *, word=None):
     return book_of_solving(solved(program, MAIN, word))
 
 
+def has_monotone_tables(program, space, context):
+    """Whether all tables in a context are monotone."""
+    kinds, meanings = program[context[0]].kinds, context[1]
+    return all([kind == "block" or space.is_monotone(meaning) for kind, meaning in zip(kinds, meanings)])
+
+
 def true_relation(program, context, *, word=None):
     """The true relation of a context."""
     check_program(program)
     check_optional_word(word)
     space = space_of(program, word)
     check_context(program, space, context)
-    kinds, meanings = program[context[0]].kinds, context[1]
-    if not all([kind == "block" or space.is_monotone(meaning) for kind, meaning in zip(kinds, meanings)]):
+    if not has_monotone_tables(program, space, context):
         raise InvalidOperation("a table is not monotone")
-    solving = solved(program, context, word)
-    return solving.meaning_now(solving.root)
+    return root_relation(solved(program, context, word))
 
 
 def is_book(program, value, *, word=None):
@@ -49,17 +65,7 @@ def is_book(program, value, *, word=None):
     check_optional_word(word)
     if not has_book_form(program, space_of(program, word), value) or MAIN not in value:
         return False
-    ledger = Ledger(plan_of(program, word))
-    relations = {ledger.number_of_told(context): value[context] for context in value}
-    return all([is_closed_at(ledger, number, relations) for number in relations])
-
-
-def is_closed_at(ledger, number, relations):
-    """Whether there is all that a context needs, and its relation has all pairs that are reckoned."""
-    reading = Reading(ledger, number, lambda other: ledger.meaning(other, relations))
-    if not all([asked in relations for asked in ledger.contexts_among(reading.asked)]):
-        return False
-    return (reading.outcome | relations[number]) == relations[number]
+    return Closing(plan_of(program, word), value).is_closed()
 
 
 def meanings_of(program, name, *, word=None):

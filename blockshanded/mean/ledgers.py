@@ -2,6 +2,25 @@
 
 from blockshanded.mean.relations import followed_by
 
+# There are never so many relations or tables that a number of one takes more bits than these.
+KEY_BITS = 24
+KEY_MASK = (1 << KEY_BITS) - 1
+
+
+def packed(meanings):
+    """Meanings as one number, for a key: the first one in the lowest bits."""
+    key = 0
+    for place, meaning in enumerate(meanings):
+        key |= meaning << (KEY_BITS * place)
+    return key
+
+
+def unpacked(key, many):
+    """So many meanings that are packed in a key."""
+    if many == 1:
+        return (key,)
+    return tuple([(key >> (KEY_BITS * place)) & KEY_MASK for place in range(many)])
+
 
 class Ledger:
     """Gives contexts, rows and tables numbers, so that long tables are compared only once.
@@ -9,14 +28,16 @@ class Ledger:
     A context is told here by the number of its procedure and the tuple of its meanings, with the numbers of
     tables in the place of tables. What lacks the last of these meanings is a row: that of the contexts with
     each relation in its place. So a row has a table where a context has a relation. Contexts and rows are
-    numbered together.
+    numbered together, from 1 on. For each procedure, `contexts` and `rows` tell the numbers by packed meanings.
     """
 
     def __init__(self, plan):
         self.plan = plan
-        self.entries = []
+        # The number 0 is that of nothing at all: no pairs are ever found for it.
+        self.entries = [None]
         self.tables = []
-        self._entry_numbers = {}
+        self.contexts = [{} for _ in plan.titles]
+        self.rows = [{} for _ in plan.titles]
         self._table_numbers = {}
         self._row_contexts = {}
         self._followed = {}
@@ -25,12 +46,19 @@ class Ledger:
 
     def number(self, procedure, meanings):
         """The number of a context or a row."""
-        entry = (procedure, meanings)
-        number = self._entry_numbers.get(entry)
-        if number is None:
-            number = len(self.entries)
-            self._entry_numbers[entry] = number
-            self.entries.append(entry)
+        is_row = len(meanings) < len(self.plan.forms[procedure])
+        numbers = self.rows[procedure] if is_row else self.contexts[procedure]
+        key = packed(meanings)
+        number = numbers.get(key)
+        return self.added(procedure, key, is_row) if number is None else number
+
+    def added(self, procedure, key, is_row):
+        """The number for a context or a row that has none so far, by its packed meanings."""
+        number = len(self.entries)
+        many = len(self.plan.forms[procedure])
+        numbers = self.rows[procedure] if is_row else self.contexts[procedure]
+        numbers[key] = number
+        self.entries.append((procedure, unpacked(key, many - 1 if is_row else many)))
         return number
 
     def is_row(self, number):
@@ -57,11 +85,11 @@ class Ledger:
             self.tables.append(table)
         return number
 
-    def meaning(self, number, relations):
-        """The relation of a context, or the number of the table of a row, by a dict of the relations of contexts."""
+    def meaning_by(self, number, tell):
+        """The relation of a context, or the number of the table of a row, by what tells the relations of contexts."""
         if not self.is_row(number):
-            return relations.get(number, 0)
-        return self.table_number(tuple([relations.get(context, 0) for context in self.row_contexts(number)]))
+            return tell(number)
+        return self.table_number(tuple([tell(context) for context in self.row_contexts(number)]))
 
     def contexts_at(self, number):
         """The contexts of a row, or a context alone."""
@@ -92,5 +120,7 @@ class Ledger:
         """A context by the name of its procedure, and by tables."""
         procedure, meanings = self.entries[number]
         kinds = self.plan.forms[procedure]
-        told = [self.tables[meaning] if kind == "wrap" else meaning for meaning, kind in zip(meanings, kinds)]
-        return self.plan.titles[procedure], tuple(told)
+        if "wrap" in kinds:
+            meanings = tuple([self.tables[meaning] if kind == "wrap" else meaning
+                              for meaning, kind in zip(meanings, kinds)])
+        return self.plan.titles[procedure], meanings

@@ -25,11 +25,20 @@ class Plan:
         self.titles = [name for name, _, _ in procedures]
         self.number_of = {name: number for number, name in enumerate(self.titles)}
         self.forms = [tuple([kind for _, kind in parameters]) for _, parameters, _ in procedures]
+        self._procedures = procedures
         self._many_parts = 0
-        self.roots = []
-        for _, parameters, body in procedures:
+        self._roots = [None] * len(procedures)
+
+    def root(self, procedure):
+        """The body of the procedure with a number, as a part."""
+        root = self._roots[procedure]
+        # Procedures that are not asked for are not made ready.
+        if root is None:
+            _, parameters, body = self._procedures[procedure]
             places = {parameter[0]: place for place, parameter in enumerate(parameters)}
-            self.roots.append(self._ready(body, places))
+            root = self._ready(body, places)
+            self._roots[procedure] = root
+        return root
 
     def _ready(self, part, places):
         number = self._many_parts

@@ -1,7 +1,7 @@
 """Contexts, and how relations are reckoned in them by a book."""
 
 from blockshanded.base.checks import check_optional_word, check_program
-from blockshanded.base.integers import is_integer_in
+from blockshanded.base.integers import are_integers_below
 from blockshanded.errors import InvalidMeaning, InvalidOperation
 from blockshanded.mean.ledgers import Ledger
 from blockshanded.mean.plans import plan_of
@@ -14,45 +14,45 @@ def space_of(program, word):
     return Space(program.modes, watched=word is not None)
 
 
-def is_relation(space, value):
-    """Whether the value is a relation of the space."""
-    return is_integer_in(value, 0, space.size - 1)
-
-
-def is_meaning(space, value, kind):
-    """Whether the value is the meaning of an argument for a parameter of this kind."""
-    return is_relation(space, value) if kind == "block" else space.is_table(value)
-
-
-def has_context_form(program, space, value):
-    """Whether the value is a context of the program, with meanings of this space."""
-    if not isinstance(value, tuple) or len(value) != 2 or value[0] not in program:
+def has_context_form(kinds_by_name, space, value):
+    """Whether the value is a context, with meanings of this space, for procedures with parameters of these kinds."""
+    if not isinstance(value, tuple) or len(value) != 2 or not isinstance(value[0], str):
         return False
-    kinds, meanings = program[value[0]].kinds, value[1]
-    if not isinstance(meanings, tuple) or len(meanings) != len(kinds):
+    kinds, meanings = kinds_by_name.get(value[0]), value[1]
+    if kinds is None or not isinstance(meanings, tuple) or len(meanings) != len(kinds):
         return False
-    return all([is_meaning(space, meaning, kind) for meaning, kind in zip(meanings, kinds)])
+    if "wrap" not in kinds:
+        return are_integers_below(meanings, space.size)
+    blocks = [meaning for meaning, kind in zip(meanings, kinds) if kind == "block"]
+    tables = [meaning for meaning, kind in zip(meanings, kinds) if kind == "wrap"]
+    return are_integers_below(blocks, space.size) and all([space.is_table(table) for table in tables])
+
+
+def kinds_in(program):
+    """The kinds of the parameters for the name of each procedure."""
+    return {procedure.named: procedure.kinds for procedure in program.procedures}
 
 
 def has_book_form(program, space, value):
     """Whether the value is a dict from contexts to relations."""
     if not isinstance(value, dict):
         return False
-    if not all([has_context_form(program, space, context) for context in value]):
+    kinds_by_name = kinds_in(program)
+    if not all([has_context_form(kinds_by_name, space, context) for context in value]):
         return False
-    return all([is_relation(space, relation) for relation in value.values()])
+    return are_integers_below(list(value.values()), space.size)
 
 
 def is_context(program, value, *, word=None):
     """Whether the value is a context."""
     check_program(program)
     check_optional_word(word)
-    return has_context_form(program, space_of(program, word), value)
+    return has_context_form(kinds_in(program), space_of(program, word), value)
 
 
 def check_context(program, space, value):
     """Raises an error unless the value is a context."""
-    if not has_context_form(program, space, value):
+    if not has_context_form(kinds_in(program), space, value):
         raise InvalidOperation("this is no context")
 
 
@@ -65,8 +65,11 @@ def reading_by(program, context, book, word):
     if not has_book_form(program, space, book):
         raise InvalidMeaning("this is no dict from contexts to relations")
     ledger = Ledger(plan_of(program, word))
-    relations = {ledger.number_of_told(told): book[told] for told in book}
-    return Reading(ledger, ledger.number_of_told(context), lambda number: ledger.meaning(number, relations)), ledger
+
+    def told(number):
+        return ledger.meaning_by(number, lambda other: book.get(ledger.told(other), 0))
+
+    return Reading(ledger, ledger.number_of_told(context), told), ledger
 
 
 def reckoned(program, context, book, *, word=None):

@@ -1,6 +1,6 @@
 """Spaces: the relations of blocks, and the tables of wraps around them."""
 
-from blockshanded.base.integers import is_integer_in
+from blockshanded.base.integers import are_integers_below, is_integer_in
 from blockshanded.base.terms import MAX_MODES
 from blockshanded.errors import InvalidMeaning, InvalidNumber, InvalidOperation
 from blockshanded.mean.relations import followed_by, same_of
@@ -79,9 +79,7 @@ class Space:
 
     def is_table(self, value):
         """Whether the value is a tuple with a relation for each relation."""
-        if not isinstance(value, tuple) or len(value) != self._size:
-            return False
-        return all([self._is_relation(relation) for relation in value])
+        return isinstance(value, tuple) and len(value) == self._size and are_integers_below(value, self._size)
 
     def is_monotone(self, table):
         """Whether the table has all pairs for a relation that it has for those within this one."""

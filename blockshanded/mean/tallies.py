@@ -1,5 +1,7 @@
 """Counting contexts of which only bounds are known."""
 
+from blockshanded.mean.readings import Reading
+
 PAIRS_FOR_EACH_OF_THE_LIMIT = 4
 
 
@@ -43,3 +45,33 @@ class Tally:
     def many_different(self):
         """The number of contexts that surely are different."""
         return sum([max([len(known) for known in by_places.values()]) for by_places in self._known.values()])
+
+
+def has_surely_more(findings, valued, contexts, limit):
+    """Whether it is sure that more contexts than the limit are needed by the true relations from some on.
+
+    Each body is reckoned twice: with what has been found so far, which is not greater than what is true,
+    and with the greatest that can be; both agree on what is `valued`. What is needed in the end lies between
+    what is asked for in the same place both times.
+    """
+    ledger = findings.ledger
+    full = ledger.plan.many_relations - 1
+
+    def least_at(number):
+        return ledger.meaning_by(number, lambda context: findings.meaning_now(context))
+
+    def greatest_at(number):
+        return ledger.meaning_by(number, lambda other: findings.meaning_now(other) if other in valued else full)
+
+    tally = Tally(ledger)
+    for context in contexts:
+        if not ledger.is_row(context):
+            tally.note(context, context)
+    while not tally.is_finished(limit):
+        least, greatest = tally.next_pair()
+        lower = Reading(ledger, least, least_at)
+        upper = Reading(ledger, greatest, greatest_at)
+        for one, other in zip(lower.asked, upper.asked):
+            for pair in zip(ledger.contexts_at(one), ledger.contexts_at(other)):
+                tally.note(*pair)
+    return tally.many_different() > limit
