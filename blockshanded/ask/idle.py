@@ -3,7 +3,7 @@
 from blockshanded.base.checks import check_known, check_program
 from blockshanded.base.procedures import Procedure
 from blockshanded.base.programs import Program
-from blockshanded.base.terms import parts_in
+from blockshanded.base.terms import parts_in, with_parts
 from blockshanded.errors import InvalidOperation
 from blockshanded.mean.books import MAIN, root_relation, solved_plan
 from blockshanded.mean.plans import Plan, triples_of
@@ -16,11 +16,6 @@ NEW_WORD = "*"
 def marked(program, term):
     """The term with a new deed ahead of it."""
     return ("seq", ("do", NEW_WORD, tuple(range(program.modes))), term)
-
-
-def with_parts(part, parts):
-    """A term or wrap with other terms and wraps in the place of those that stand directly in it."""
-    return part[:len(part) - len(parts)] + tuple(parts)
 
 
 def with_marked_runs(program, part, parameter):

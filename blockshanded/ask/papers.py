@@ -4,13 +4,8 @@ from blockshanded.ask.shortest import shortest_choices
 from blockshanded.ask.tracing import traced_choices
 from blockshanded.errors import TooMany
 from blockshanded.mean.books import MAIN, is_book
-from blockshanded.mean.relations import row_of
+from blockshanded.mean.relations import has_pair
 from blockshanded.runs.runs import MAX_STEPS, Run
-
-
-def has_pair(relation, start, end, ends):
-    """Whether a relation, with so many ends, leads from a mode to an end."""
-    return (row_of(relation, start, ends) >> end) & 1 == 1
 
 
 def found_run(program, solving, start, end):

@@ -1,8 +1,9 @@
 """The deeds that runs can do."""
 
-from blockshanded.ask.papers import found_run, has_pair, is_book_without, is_pair_headed, is_run_from
+from blockshanded.ask.papers import found_run, is_book_without, is_pair_headed, is_run_from
 from blockshanded.base.checks import check_mode, check_program, check_word
 from blockshanded.mean.books import MAIN, book_of_solving, root_relation, solved
+from blockshanded.mean.relations import has_pair
 
 
 def check_start_and_word(program, start, word):

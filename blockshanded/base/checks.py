@@ -30,6 +30,13 @@ def check_optional_word(value):
         check_word(value)
 
 
+def check_pair_of_names(program, one, other):
+    """Raises an error unless these are a program and the names of two of its procedures."""
+    check_program(program)
+    check_known(program, one)
+    check_known(program, other)
+
+
 def check_known(program, name):
     """Raises an error unless a procedure of the program has this name."""
     if name not in program:

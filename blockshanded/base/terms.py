@@ -37,6 +37,11 @@ def parts_in(part):
     return ()
 
 
+def with_parts(part, parts):
+    """A term or wrap with other terms and wraps in the place of those that stand directly in it."""
+    return part[:len(part) - len(parts)] + tuple(parts)
+
+
 def kinds_in(part):
     """For each of the parts that stand directly in a term or wrap, the kinds that it may have."""
     if part[0] == "wrap":

@@ -6,6 +6,16 @@ def row_of(relation, mode, ends):
     return (relation >> (mode * ends)) & ((1 << ends) - 1)
 
 
+def has_pair(relation, start, end, ends):
+    """Whether a relation, with so many ends, leads from a mode to an end."""
+    return (row_of(relation, start, ends) >> end) & 1 == 1
+
+
+def pairs_of(relation, modes, ends):
+    """The pairs of a relation, ascending."""
+    return [divmod(bit, ends) for bit in range(modes * ends) if (relation >> bit) & 1]
+
+
 def same_of(modes, ends):
     """The relation of all pairs (m, m)."""
     return sum([1 << (mode * ends + mode) for mode in range(modes)])

@@ -3,7 +3,7 @@
 from blockshanded.base.integers import are_integers_below, is_integer_in
 from blockshanded.base.terms import MAX_MODES
 from blockshanded.errors import InvalidMeaning, InvalidNumber, InvalidOperation
-from blockshanded.mean.relations import followed_by, same_of
+from blockshanded.mean.relations import followed_by, pairs_of, same_of
 
 
 class Space:
@@ -48,8 +48,7 @@ class Space:
     def pairs(self, relation):
         """The pairs of a relation, ascending."""
         self._check_relation(relation)
-        bits = range(self._modes * self._ends)
-        return tuple([divmod(bit, self._ends) for bit in bits if (relation >> bit) & 1])
+        return tuple(pairs_of(relation, self._modes, self._ends))
 
     def relation(self, pairs):
         """The number of the relation with these pairs."""

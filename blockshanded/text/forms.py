@@ -65,11 +65,11 @@ def parameter_of(pieces):
     return (pieces[0], pieces[1]) if len(pieces) == 2 and is_word(pieces[1]) else None
 
 
-def wrapped_of(pieces):
+def wrapped_told_by(pieces):
     """The "wrap" that the pieces tell, or None."""
     if len(pieces) != 3:
         return None
-    wrap, term = wrap_of(pieces[1]), term_of(pieces[2])
+    wrap, term = wrap_told_by(pieces[1]), term_of(pieces[2])
     return None if wrap is None or term is None else ("wrap", wrap, term)
 
 
@@ -85,10 +85,10 @@ def term_of(pieces):
         return all_told((pieces[0],), pieces[1:], term_of)
     if pieces[0] == "call":
         return named_of(pieces)
-    return wrapped_of(pieces) if pieces[0] == "wrap" else None
+    return wrapped_told_by(pieces) if pieces[0] == "wrap" else None
 
 
-def wrap_of(pieces):
+def wrap_told_by(pieces):
     """The wrap that the pieces in a pair of brackets tell, or None."""
     if not isinstance(pieces, list):
         return None
@@ -100,7 +100,7 @@ def wrap_of(pieces):
 def part_of(pieces):
     """The term or the wrap that the pieces in a pair of brackets tell, or None."""
     term = term_of(pieces)
-    return wrap_of(pieces) if term is None else term
+    return wrap_told_by(pieces) if term is None else term
 
 
 def body_of(pieces):

@@ -1,0 +1,1 @@
+"""Programs that change and keep promises."""

@@ -1,0 +1,1 @@
+"""Runs that go on for ever."""

@@ -1,0 +1,1 @@
+"""What is the same for all callers, and programs that are made of others."""
