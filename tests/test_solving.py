@@ -13,6 +13,7 @@ from blockshanded.mean.demands import Usage
 from blockshanded.mean.ledgers import Ledger
 from blockshanded.mean.plans import plan_of
 from blockshanded.mean.queues import Queues
+from blockshanded.mean.relating import relation_solving
 from blockshanded.mean.solving import Solving
 from blockshanded.mean.tallies import Tally
 from blockshanded.runs.runs import Run
@@ -29,7 +30,7 @@ WRAP = (("w", "wrap"),)
 
 def solving_of(program, word=None, limit=800):
     """How the relations are found that main needs, and the number of main, with nothing found yet."""
-    solving = Solving(plan_of(program, word), limit)
+    solving = relation_solving(plan_of(program, word), limit)
     return solving, solving.ledger.number_of_told(MAIN)
 
 

@@ -1,47 +1,6 @@
-"""Bodies of procedures, made into functions, so that they are quickly reckoned in many contexts.
+"""Bodies of procedures, made into functions, so that they are quickly reckoned in many contexts."""
 
-A value is told here by a triple: the relation or the number of the table, if it is the same one in all contexts,
-or None; the tuple of the sites that it depends on; and a function that tells it by the meanings of a context and
-the numbers of what is asked for at each site. A site is where a body asks for a context or a row.
-"""
-
-from blockshanded.mean.ledgers import KEY_BITS, packed
-
-
-def constant_value(meaning):
-    """The value that is the same one in all contexts."""
-    return (meaning, (), lambda given, asked: meaning)
-
-
-def given_value(place):
-    """The value that is handed for a parameter."""
-    return (None, (), lambda given, asked: given[place])
-
-
-def site_value(index, reads, current):
-    """What is found at a site, by the list of what has been found for all numbers."""
-    return (None, reads + (index,), lambda given, asked: current[asked[index]])
-
-
-def packed_two(one, other):
-    """The function for the key of two meanings."""
-    return lambda given, asked: one(given, asked) | (other(given, asked) << KEY_BITS)
-
-
-def packed_three(one, other, last):
-    """The function for the key of three meanings."""
-    rest = packed_two(other, last)
-    return lambda given, asked: one(given, asked) | (rest(given, asked) << KEY_BITS)
-
-
-def packed_function(values):
-    """The function for the key of the meanings that are told by these values."""
-    if not [value for value in values if value[0] is None]:
-        return constant_value(packed([value[0] for value in values]))[2]
-    functions = [value[2] for value in values]
-    if len(functions) == 1:
-        return functions[0]
-    return packed_two(*functions) if len(functions) == 2 else packed_three(*functions)
+from blockshanded.mean.sites import Sites, constant_value, given_value, last_packed, site_value
 
 
 def taken_with(place, constant):
@@ -93,28 +52,20 @@ def looked_up(tables, place, inner):
     return lambda given, asked: tables[given[place]][inner(given, asked)]
 
 
-class Body:
-    """The body of a procedure: its sites, in the order in which they are asked for, and how it is reckoned.
+class Body(Sites):
+    """The body of a procedure: what it asks for, and how its relation is reckoned.
 
-    A site is a tuple of its index, the dict of the numbers by packed meanings, the function for these, the
-    procedure, whether it is a row, and whether its pairs are just added to those of the body. Those that do
-    not depend on others are static.
+    The values of its terms, and of the wraps that are handed, are kept by the numbers of these parts.
     """
 
     def __init__(self, ledger, procedure, current):
-        self.for_row = False
-        self.static_sites = []
-        self.dynamic_sites = []
-        # For each site the ones that it depends on; and those on which others depend.
-        self.reads = []
-        self.feeding = {}
+        Sites.__init__(self, False)
+        self.told_by = {}
         self._ledger = ledger
         self._current = current
         self._root = ledger.plan.root(procedure)
         self._direct = self._direct_parts()
         self.value_of = self._value(self._root)[2]
-        self.many_sites = len(self.reads)
-        self.is_static = self.dynamic_sites == []
 
     def _direct_parts(self):
         """The numbers of the terms whose pairs are all pairs of the body."""
@@ -122,6 +73,11 @@ class Body:
         return {term[1]: True for term in terms}
 
     def _value(self, part):
+        value = self._made_value(part)
+        self.told_by[part[1]] = value
+        return value
+
+    def _made_value(self, part):
         tag = part[0]
         if tag == "do":
             return constant_value(part[2])
@@ -140,18 +96,9 @@ class Body:
         return (None, inner[1], looked_up(self._ledger.tables, wrap[2], inner[2]))
 
     def _site(self, part, procedure, values, is_row):
-        index = len(self.reads)
-        reads = tuple([site for value in values for site in value[1]])
-        self.reads.append(reads)
-        for site in reads:
-            self.feeding[site] = True
         numbers = self._ledger.rows[procedure] if is_row else self._ledger.contexts[procedure]
-        site = (index, numbers, packed_function(values), procedure, is_row, part[1] in self._direct)
-        if reads:
-            self.dynamic_sites.append(site)
-        else:
-            self.static_sites.append(site)
-        return site_value(index, reads, self._current)
+        sites = self.add_site(values, numbers, procedure, is_row, part[1] in self._direct)
+        return site_value(sites, self._current)
 
     def _sequence(self, parts):
         same = self._ledger.plan.nothing_at_all
@@ -198,33 +145,15 @@ def is_asking(part):
     return part[0] == "call" or part[0] == "wrap" and part[2][0] == "with"
 
 
-class RowBody:
-    """What a row asks for, in the form of a body."""
+class RowBody(Sites):
+    """What a row asks for, and how the number of its table is reckoned."""
 
     def __init__(self, ledger, procedure, current):
-        self.for_row = True
-        self.is_static = True
-        self.dynamic_sites = []
-        self.many_sites = ledger.plan.many_relations
-        self.reads = [()] * self.many_sites
-        self.feeding = {}
+        Sites.__init__(self, True)
         many = len(ledger.plan.forms[procedure]) - 1
-        numbers = ledger.contexts[procedure]
-        self.static_sites = [(relation, numbers, last_packed(many, relation << (KEY_BITS * many)), procedure, False,
-                              False) for relation in range(self.many_sites)]
+        for relation in range(ledger.plan.many_relations):
+            self.add_row_site(last_packed(many, relation), ledger.contexts[procedure], procedure)
         self.value_of = table_function(ledger, current)
-
-
-def last_packed(many, last):
-    """The function for the key of so many meanings of a row with one behind them."""
-    if many == 0:
-        return constant_value(last)[2]
-    return taken_with(0, last) if many == 1 else all_taken_with(last)
-
-
-def all_taken_with(last):
-    """The function for the key of all that is handed, with one meaning behind it."""
-    return lambda given, asked: packed(given) | last
 
 
 def table_function(ledger, current):

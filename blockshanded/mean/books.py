@@ -5,7 +5,7 @@ from blockshanded.errors import InvalidOperation
 from blockshanded.mean.closing import Closing
 from blockshanded.mean.plans import plan_of
 from blockshanded.mean.reckoning import check_context, has_book_form, space_of
-from blockshanded.mean.solving import Solving
+from blockshanded.mean.relating import relation_solving
 
 MAX_CONTEXTS = 800
 MAIN = ("main", ())
@@ -13,7 +13,7 @@ MAIN = ("main", ())
 
 def solved_plan(plan, context):
     """How the true relations are found that are needed from a context on, which is the only root."""
-    solving = Solving(plan, MAX_CONTEXTS)
+    solving = relation_solving(plan, MAX_CONTEXTS)
     solving.solve([solving.ledger.number_of_told(context)])
     return solving
 

@@ -52,3 +52,14 @@ def followed_by(one, other, modes, ends):
                 found |= row_of(other, middle, ends)
         relation |= found << (mode * ends)
     return relation
+
+
+def is_growing(table, bits):
+    """Whether what a table tells for a number with some bits has all bits of what it tells with fewer of them."""
+    # It is enough to look at numbers that have just one bit more.
+    for bit in range(bits):
+        for less, found in enumerate(table):
+            greater = table[less | (1 << bit)]
+            if (found | greater) != greater:
+                return False
+    return True

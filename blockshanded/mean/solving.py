@@ -1,12 +1,9 @@
-"""The true relations of contexts and of all contexts that are needed from them on, found from below."""
+"""The true meanings of contexts and of all contexts that are needed from them on, found from below."""
 
 from heapq import heappop, heappush
 
 from blockshanded.errors import TooMany
-from blockshanded.mean.bodies import Body, RowBody
 from blockshanded.mean.findings import Findings
-from blockshanded.mean.ledgers import Ledger
-from blockshanded.mean.patience import Patience
 
 # What has happened to a context or a row: nothing yet; it has begun to ask, and is reckoned once this is there;
 # it is reckoned; something that it asks for has grown since; it has all pairs, and asks for nothing else any more;
@@ -24,24 +21,24 @@ REACHED_FOR_EACH_OF_THE_LIMIT = 4
 
 
 class Solving:
-    """The least relations that are needed from some contexts on, and how they were found.
+    """The least meanings that are needed from some contexts on, and how they were found.
 
-    It begins with no pairs at all, and reckons bodies again whenever something that they ask for has grown. So
-    no relation is ever greater than the true one; and once nothing that is needed from the roots on has to be
-    reckoned any more, these relations are what is reckoned by them, and so the true ones. All this is about the
-    numbers of a ledger, of contexts and rows.
+    It begins with nothing at all, and reckons bodies again whenever something that they ask for has grown. So no
+    meaning is ever greater than the true one; and once nothing that is needed from the roots on has to be reckoned
+    any more, these meanings are what is reckoned by them, and so the true ones. All this is about the numbers of a
+    ledger, of contexts and rows; a library makes the bodies, and tells the greatest meaning of a context.
 
     What is asked for is reckoned first, as far as it does not ask for what asks for it. What is asked for by
     meanings that may still grow waits until nothing else is left to be done; so not many contexts are asked for
     that are not needed in the end. If they are very many all the same, the search goes on patiently.
     """
 
-    def __init__(self, plan, limit):
-        self.ledger = Ledger(plan)
-        self.findings = Findings(self.ledger)
+    def __init__(self, ledger, library, limit):
+        self.ledger = ledger
+        self.findings = Findings(ledger)
         self.roots = []
+        self._library = library
         self._limit = limit
-        self._full = plan.many_relations - 1
         self._bodies = {}
         # For each number, the first of which is that of nothing at all: its body; the numbers at the sites of this;
         # what asks for it; what has happened to it; and whether its meaning is known to be true.
@@ -64,7 +61,7 @@ class Solving:
         self._counted = {}
 
     def solve(self, roots):
-        """Finds the true relations of contexts; an error if more than the limit are needed from these on."""
+        """Finds the true meanings of contexts; an error if more than the limit are needed from these on."""
         self._follow_ledger()
         self.roots = roots
         self._opened = []
@@ -79,6 +76,10 @@ class Solving:
                 self._note_final(number)
         self._count(roots)
 
+    def numbers_asked(self, number):
+        """What a context or a row whose true meaning has been found asks for, in the order of its sites."""
+        return self._asked[number]
+
     def contexts_from(self, roots):
         """The contexts that are needed from some contexts on, these counted."""
         return [number for number in self._reached(roots) if not self._body_at[number].for_row]
@@ -92,8 +93,7 @@ class Solving:
     def _place(self, procedure, is_row):
         body = self._bodies.get((procedure, is_row))
         if body is None:
-            current = self.findings.current
-            body = RowBody(self.ledger, procedure, current) if is_row else Body(self.ledger, procedure, current)
+            body = self._library.made_body(procedure, is_row, self.findings.current)
             self._bodies[(procedure, is_row)] = body
         self._body_at.append(body)
         self._asked.append(())
@@ -185,9 +185,9 @@ class Solving:
         before = self.findings.current[number]
         meaning = value_of(self.ledger.entries[number][1], asked)
         if not body.for_row:
-            # Pairs that were found by lesser relations stay, also while what is asked for now is not yet reckoned.
+            # What was found by lesser meanings stays, also while what is asked for now is not yet reckoned.
             meaning |= before
-            if meaning == self._full and body.is_static:
+            if meaning == self._library.full and body.is_static:
                 self._states[number] = FULL
                 self._is_true[number] = True
         if meaning != before:
@@ -248,8 +248,9 @@ class Solving:
             # At first as if all might still grow, since it takes longer to see what can.
             if self._has_too_many(reached) or self._has_too_many(self._unsettled(reached)):
                 raise TooMany(self._limit)
-            self._is_hopeless = (many > OPENED_FOR_EACH_OF_THE_LIMIT * self._limit
-                                 or len(reached) > REACHED_FOR_EACH_OF_THE_LIMIT * self._limit)
+            self._is_hopeless = self._library.is_patient and (
+                many > OPENED_FOR_EACH_OF_THE_LIMIT * self._limit
+                or len(reached) > REACHED_FOR_EACH_OF_THE_LIMIT * self._limit)
 
     def _drop_unneeded(self):
         """Forgets what is not needed from the roots on by what has been found so far."""
@@ -325,7 +326,7 @@ class Solving:
         self._queue.clear()
         self._waiting = {}
         self._is_hopeless = False
-        asked = Patience(self.findings, final, self._limit).needed_from(self.roots)
+        asked = self._library.needed_patiently(self.findings, final, self._limit, self.roots)
         self._follow_ledger()
         for number in asked:
             self._asked[number] = asked[number]

@@ -3,7 +3,7 @@
 from blockshanded.base.integers import are_integers_below, is_integer_in
 from blockshanded.base.terms import MAX_MODES
 from blockshanded.errors import InvalidMeaning, InvalidNumber, InvalidOperation
-from blockshanded.mean.relations import followed_by, pairs_of, same_of
+from blockshanded.mean.relations import followed_by, is_growing, pairs_of, same_of
 
 
 class Space:
@@ -83,13 +83,7 @@ class Space:
     def is_monotone(self, table):
         """Whether the table has all pairs for a relation that it has for those within this one."""
         self._check_table(table)
-        # It is enough to look at relations that have just one pair more.
-        for bit in range(self._modes * self._ends):
-            for relation in range(self._size):
-                greater = relation | (1 << bit)
-                if (table[relation] | table[greater]) != table[greater]:
-                    return False
-        return True
+        return is_growing(table, self._modes * self._ends)
 
     def composed(self, one, other):
         """The table of the first wrap around what the second one is around a block."""

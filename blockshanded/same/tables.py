@@ -5,8 +5,8 @@ from blockshanded.base.integers import are_integers_below
 from blockshanded.errors import InvalidOperation, TooMany
 from blockshanded.mean.books import MAX_CONTEXTS
 from blockshanded.mean.plans import plan_of
+from blockshanded.mean.relating import relation_solving
 from blockshanded.mean.relations import pairs_of
-from blockshanded.mean.solving import Solving
 
 
 def size_of(program):
@@ -47,7 +47,7 @@ def all_tuples(many_values, many, limit):
 
 def solving_for(program):
     """With which true relations of several procedures are found, one after another."""
-    return Solving(plan_of(program, None), MAX_CONTEXTS)
+    return relation_solving(plan_of(program, None), MAX_CONTEXTS)
 
 
 def found_entries(solving, procedure):
