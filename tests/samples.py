@@ -5,8 +5,11 @@ import unittest
 from blockshanded.base.procedures import Procedure
 from blockshanded.base.programs import Program
 from blockshanded.errors import HandError, TooMany
+from blockshanded.house.project import Project
+from blockshanded.last.endless import Beginning
 from blockshanded.mean.spaces import Space
 from blockshanded.runs.runs import Run
+from blockshanded.text.shell import Shell
 
 FLIP = ("do", "flip", (1, 0))
 TWICE = Procedure("twice", (("b", "block"),), ("seq", ("run", "b"), ("run", "b")))
@@ -60,7 +63,8 @@ def containers():
 
 def objects():
     """Objects of the package."""
-    return [TWICE, AGAIN, FLIPS, LOCKS, Run(FLIPS, 0), Space(2), HandError("wrong"), TooMany(8)]
+    return [TWICE, AGAIN, FLIPS, LOCKS, Run(FLIPS, 0), Space(2), HandError("wrong"), TooMany(8), Project(LOCKS), Shell(),
+            Beginning(LOOP, 0, 3)]
 
 
 def no_names():

@@ -142,6 +142,29 @@ class ManyContextsTest(PromiseTest):
                     for context in list(book)[::17]:
                         self.assert_same(true_relation(program, context, word=word), book[context])
 
+    def test_not_quite_800(self):
+        # On the way, blocks are handed with relations that grow later; what is asked for by them is not needed.
+        program = program_of(
+            "proc main : (or (do c - 2 0) (seq (call q (or (do b 1 2 2) (do a 1 0 1))) (do a - 1 1) (do c - 0 1)) (call s) "
+            "(wrap (with q) (call t (do b - - -) (call r (call q (do c - 2 2)) (call r (do c 1 1 1) (do c 1 0 2))) (call q (call "
+            "main)))) (seq (call p (call p (call t (do b - 0 -) (do b 1 - 0) (do a 0 0 -)) (call q (do b 0 1 -)) (do c 0 0 0)) (do "
+            "b 2 1 1) (do a 0 0 -))))",
+            "proc p x block y block z block : (or (do b - 1 0) (call q (call t (call r (run z) (call q (do c 0 - 2))) (call p (or "
+            "(do b 2 0 0) (run z)) (or (do c 0 2 1) (run x) (run z)) (run y)) (call p (call q (run z)) (seq (run x) (run z)) (run "
+            "x)))) (run z))",
+            "proc q x block : (or (do c 1 2 1) (call main))",
+            "proc r x block y block : (or (run y) (seq (seq (run y) (seq (call t (do b - 1 1) (do c 0 2 -) (do c 0 0 2)) (call p (run "
+            "x) (run y) (do a 0 1 1)))) (or (call q (call r (do b - 2 2) (do b 2 0 -)))) (or (call s))))",
+            "proc s : (or (do b - 1 2) (call r (call r (call r (seq (do a 2 2 2) (do b - 2 -) (do c 2 1 2)) (or (do c 1 - 1) (do b 0 "
+            "0 1))) (call t (call p (do b 0 0 1) (do c 2 0 0) (do b 2 0 2)) (call p (do a - 1 2) (do a - 0 2) (do c 0 2 2)) (do b 1 0 "
+            "2))) (do b 2 2 0)))",
+            "proc t x block y block z block : (or (run y) (run z) (seq (call t (run x) (run y) (do b - - 1)) (run x) (wrap (with q) "
+            "(run z))) (call main))")
+        book = book_of(program)
+        self.assertEqual(len(book), 797)
+        self.assertIs(is_book(program, book), True)
+        self.assert_same(true_relation(program, MAIN), book[MAIN])
+
     def test_it_is_quick(self):
         first = program_of("proc main : (call f (do a - - -))", climbing("f", ALL_DEEDS))
         second = program_of("proc main : (seq (call f (do a - - -)) (call g (do a - - -)))",

@@ -56,8 +56,29 @@ def giving_up(at):
     def look(solving):
         if solving._has_replaced:
             solving._drop_unneeded()
-        solving._is_hopeless = True
+        solving._is_broad = solving._is_hopeless = True
     return mock.patch.multiple(solving_module, OPENED_BETWEEN_LOOKS=at), mock.patch.object(Solving, "_look", look)
+
+
+def in_breadth(at, step):
+    """Has it go on in breadth when so much has been opened, and drop what is not needed after each step."""
+    def look(solving):
+        if solving._has_replaced:
+            solving._drop_unneeded()
+        solving._next_look = len(solving._opened) + step
+        solving._is_broad = len(solving._opened) >= at
+    return mock.patch.multiple(solving_module, OPENED_BETWEEN_LOOKS=step), mock.patch.object(Solving, "_look", look)
+
+
+def check_runs(test, program, word, solving, relation):
+    """For each pair of the relation of main a run is told that is right."""
+    many = program.modes + (word is not None)
+    for start in range(program.modes):
+        for end in range(program.modes) if word is None else (program.modes,):
+            if relation >> (start * many + end) & 1:
+                run = Run(program, start, *traced_choices(solving, start, end, 1000), until=word)
+                test.assertEqual((run.state, run.mode) if word is None else run.state,
+                                 ("ended", end) if word is None else "done")
 
 
 class LimitsTest(PromiseTest):
@@ -120,17 +141,8 @@ class PatienceTest(PromiseTest):
             solving.solve([root])
             asked = len(solving._opened) >= at
         self.assertEqual(told_book(solving, [root]), wanted)
-        self.check_runs(program, word, solving, wanted[MAIN])
+        check_runs(self, program, word, solving, wanted[MAIN])
         return asked
-
-    def check_runs(self, program, word, solving, relation):
-        many = program.modes + (word is not None)
-        for start in range(program.modes):
-            for end in range(program.modes) if word is None else (program.modes,):
-                if relation >> (start * many + end) & 1:
-                    run = Run(program, start, *traced_choices(solving, start, end, 1000), until=word)
-                    self.assertEqual((run.state, run.mode) if word is None else run.state,
-                                     ("ended", end) if word is None else "done")
 
     def test_random_programs(self):
         patient = 0
@@ -167,6 +179,45 @@ class PatienceTest(PromiseTest):
         for blocks in ((DONE, DONE, DONE), (late, late, late), (late, DONE, late)):
             for word in (None, "other"):
                 with many, look:
+                    self.assert_raises(TooMany, book_of, flood(*blocks), by_keyword={"word": word}, limit=800)
+
+
+class BreadthTest(PromiseTest):
+    """What is found if it goes on in breadth, from some time on."""
+
+    def check(self, program, word, at, step, limit=300):
+        """The book and the runs are right; whether it went on in breadth."""
+        wanted = Slow(program, word).book(limit=limit)
+        if wanted is None:
+            return False
+        many, look = in_breadth(at, step)
+        solving, root = solving_of(program, word)
+        with many, look:
+            solving.solve([root])
+        self.assertEqual(told_book(solving, [root]), wanted)
+        check_runs(self, program, word, solving, wanted[MAIN])
+        return solving._is_broad
+
+    def test_random_programs(self):
+        broad = 0
+        for seed in range(250):
+            for word in (None, "a"):
+                for at, step in ((1, 1), (3, 2), (8, 3), (20, 1)):
+                    with self.subTest(seed=seed, word=word, at=at):
+                        broad += self.check(random_program(seed), word, at, step)
+        self.assertGreater(broad, 500)
+
+    def test_programs_that_need_more_by_lesser_relations(self):
+        for many in (1, 2):
+            for late in (1, 3):
+                for at in (1, 10, 50):
+                    self.assertIs(self.check(lesser_crowd(many, late), None, at, 5, 1000), True)
+
+    def test_too_many_is_seen_in_breadth(self):
+        late = ("call", "main")
+        with mock.patch.object(solving_module, "OPENED_IN_DEPTH", 0):
+            for blocks in ((DONE, DONE, DONE), (late, late, late), (late, DONE, late)):
+                for word in (None, "other"):
                     self.assert_raises(TooMany, book_of, flood(*blocks), by_keyword={"word": word}, limit=800)
 
 

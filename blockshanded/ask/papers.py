@@ -3,7 +3,7 @@
 from blockshanded.ask.shortest import shortest_choices
 from blockshanded.ask.tracing import traced_choices
 from blockshanded.errors import TooMany
-from blockshanded.mean.books import MAIN, is_book
+from blockshanded.mean.books import MAIN, is_book, solved_plan
 from blockshanded.mean.relations import has_pair
 from blockshanded.runs.runs import MAX_STEPS, Run
 
@@ -11,6 +11,10 @@ from blockshanded.runs.runs import MAX_STEPS, Run
 def found_run(program, solving, start, end):
     """A run from a mode to an end to which the relation that was found for main leads."""
     choices = traced_choices(solving, start, end, MAX_STEPS)
+    if choices is None:
+        # What is found in breadth is found by fewer steps, as a rule.
+        again = solved_plan(solving.ledger.plan, MAIN, True)
+        choices = traced_choices(again, start, end, MAX_STEPS)
     if choices is None:
         choices = shortest_choices(solving, start, end, MAX_STEPS)
     if choices is None:

@@ -219,6 +219,7 @@ class LastingLibrary:
 
     def __init__(self, catalog):
         self.full = catalog.all_modes
+        # The sets are so small that what leads to too much is soon seen to do so, or is left.
         self.is_patient = False
         self._catalog = catalog
         self._forms = {}

@@ -11,10 +11,10 @@ MAX_CONTEXTS = 800
 MAIN = ("main", ())
 
 
-def solved_plan(plan, context):
+def solved_plan(plan, context, in_breadth=False):
     """How the true relations are found that are needed from a context on, which is the only root."""
     solving = relation_solving(plan, MAX_CONTEXTS)
-    solving.solve([solving.ledger.number_of_told(context)])
+    solving.solve([solving.ledger.number_of_told(context)], in_breadth)
     return solving
 
 

@@ -19,7 +19,7 @@ class Patience:
     not matter how much would be needed by lesser relations.
     """
 
-    def __init__(self, findings, final, limit):
+    def __init__(self, findings, settled, limit):
         self._findings = findings
         self._ledger = findings.ledger
         self._full = self._ledger.plan.many_relations - 1
@@ -27,7 +27,7 @@ class Patience:
         self._usage = Usage(self._ledger.plan)
         self._queues = Queues()
         # What is known to be true.
-        self._valued = {number: True for number in final}
+        self._valued = {number: True for number in settled}
         # For each number that has been reckoned, what matters for it; and the other way round.
         self._demanded = {}
         self._demanders = {}

@@ -4,6 +4,7 @@ from blockshanded.mean.bodies import Body, RowBody
 from blockshanded.mean.ledgers import Ledger
 from blockshanded.mean.patience import Patience
 from blockshanded.mean.solving import Solving
+from blockshanded.mean.tallies import has_surely_more
 
 
 class RelationLibrary:
@@ -18,9 +19,13 @@ class RelationLibrary:
         """The body of a procedure, or that of its rows."""
         return RowBody(self._ledger, procedure, current) if is_row else Body(self._ledger, procedure, current)
 
-    def needed_patiently(self, findings, final, limit, roots):
+    def has_surely_more(self, findings, settled, contexts, limit):
+        """Whether it is sure that more contexts than the limit are needed from some on."""
+        return has_surely_more(findings, {number: True for number in settled}, contexts, limit)
+
+    def needed_patiently(self, findings, settled, limit, roots):
         """What is needed from some contexts on, found where lesser relations lead to far too many others."""
-        return Patience(findings, final, limit).needed_from(roots)
+        return Patience(findings, settled, limit).needed_from(roots)
 
 
 def relation_solving(plan, limit):
