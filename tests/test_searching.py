@@ -8,8 +8,9 @@ from blockshanded.ask.ends import end_run
 from blockshanded.ask.shortest import shortest_choices
 from blockshanded.ask.tracing import traced_choices
 from blockshanded.errors import TooMany
-from blockshanded.mean.books import MAIN, root_relation, solved
+from blockshanded.mean.books import MAIN, root_relation, solved, solved_plan
 from blockshanded.runs.runs import Run
+from blockshanded.text.texts import read_program
 from tests.long_runs import long_or_deep, long_way, wrapped_work
 from tests.random_programs import random_program
 from tests.samples import FLIP, FLIPS, LOCKS, PromiseTest
@@ -92,6 +93,24 @@ class SearchTest(PromiseTest):
             self.assertIn((0, 1), pairs)
             self.assertIsNone(traced_choices(solving, 0, 1, 1000))
             self.assertEqual(shortest_choices(solving, 0, 1, 1000), (1,))
+
+    def test_in_breadth_if_the_first_way_is_too_long(self):
+        # The order in which relations are found in depth leads to runs of more than 1000 steps here.
+        program = read_program("\n".join([
+            "program 3",
+            "proc main : (or (do a - - 0) (do c - - 0) (do c 1 - -) (seq (seq (do a - 1 2) (call q (do c - 2 0) (do c - - 0) (do a 1 "
+            "- -)) (or (do c - - 0) (do a - - -)))) (wrap (with q (do a - - -) (seq (do a - 0 1))) (or (seq (do a - - 1) (do c - 1 -) "
+            "(do a - 0 -)) (call q (do b - 0 -) (do c - - -) (do b 2 - -)))))",
+            "proc p x block y block z block : (or (do b - - -) (call main) (run x))",
+            "proc q x block y block z block : (or (run x) (seq (seq (call main) (call q (do b - 2 -) (run x) (run z)) (seq (run z))) "
+            "(seq (wrap (with q (run y) (run z)) (do c 1 2 -))) (call main)) (run z) (call main))"]))
+        solving, pairs = questions(program, None)
+        for start, end in pairs:
+            run = end_run(program, start, end)
+            self.assertEqual((run.state, run.mode), ("ended", end))
+        broad = solved_plan(solving.ledger.plan, MAIN, True)
+        for start, end in pairs:
+            self.check_run(program, start, end, None, traced_choices(broad, start, end, 1000))
 
     def test_too_many_places(self):
         program = long_or_deep(3)
